@@ -1,0 +1,1 @@
+"""Oncekinds: programs that use each name once, and their kinds."""
