@@ -1,4 +1,4 @@
-"""What numbers and names are, and the row in which new names are told."""
+"""What numbers and names are, the row in which new names are told, and words that stand ahead of their parts."""
 
 LETTERS = "abcdefghijklmnopqrstuvwxyz"
 MOST_LETTERS = 8
@@ -25,3 +25,27 @@ def lettered(number):
         rest, last = divmod(rest - 1, len(LETTERS))
         text = LETTERS[last] + text
     return text
+
+
+def misfit_index(needs):
+    """Return the first index behind a whole, or how many words there are if more are needed.
+
+    The needs tell of each word how many parts it has; they stand behind it.
+    """
+    lacking = 1
+    for at, need in enumerate(needs):
+        if lacking == 0:
+            return at
+        lacking += need - 1
+    return None if lacking == 0 else len(needs)
+
+
+def ends_by(needs):
+    """Return the tuple with the index behind the part at each place; at most two parts belong to a word."""
+    behind = [0] * len(needs)
+    # From the last word on, the ends of the parts within are there already.
+    for at in reversed(range(len(needs))):
+        behind[at] = at + 1
+        for _ in range(needs[at]):
+            behind[at] = behind[behind[at]]
+    return tuple(behind)

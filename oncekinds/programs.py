@@ -1,6 +1,6 @@
 """Programs in words, and what stands at their places."""
 
-from oncekinds.basics import is_name, is_number
+from oncekinds.basics import ends_by, is_name, is_number, misfit_index
 from oncekinds.errors import BadProgram, NoPlace
 
 GIVEN = "@"
@@ -35,7 +35,7 @@ def fault_index(words):
         return -1
     index = stranger_index(words)
     if index is None:
-        index = misfit_index(words)
+        index = misfit_index([parts_in(word) for word in words])
     if index is None:
         index = repeated_index(words)
     if index is None:
@@ -58,17 +58,11 @@ def stranger_index(things):
     return None
 
 
-def misfit_index(words):
-    """Return the index of the first word behind a whole program, or how many words there are if more are needed."""
-    needed = 1
-    for at, word in enumerate(words):
-        if needed == 0:
-            return at
-        if word == GIVEN:
-            needed += 1
-        elif not word.startswith(TAKE):
-            needed -= 1
-    return None if needed == 0 else len(words)
+def parts_in(word):
+    """Return how many parts belong to a word: those behind "@", the body of a take, none to a name."""
+    if word == GIVEN:
+        return 2
+    return 1 if word.startswith(TAKE) else 0
 
 
 def repeated_index(words):
@@ -94,16 +88,7 @@ def unused_index(words):
 
 def ends_of(words):
     """Return the tuple with the index behind the part at each place."""
-    behind = [0] * len(words)
-    # From the last word on, the ends of the parts within are there already.
-    for at in reversed(range(len(words))):
-        if words[at] == GIVEN:
-            behind[at] = behind[behind[at + 1]]
-        elif words[at].startswith(TAKE):
-            behind[at] = behind[at + 1]
-        else:
-            behind[at] = at + 1
-    return tuple(behind)
+    return ends_by([parts_in(word) for word in words])
 
 
 def taken_names(program):

@@ -2,7 +2,9 @@
 
 from itertools import count, islice, product
 
-from oncekinds.errors import BadProgram, NoPlace, Unknown
+from oncekinds.errors import BadKind, BadProgram, NoPlace, Unknown
+from oncekinds.kinds import Kind
+from oncekinds.live import Run
 from oncekinds.programs import Program
 
 SIGNS = "abcdefghijklmnopqrstuvwxyz"
@@ -34,6 +36,7 @@ def nested_things():
         inside(lambda thing: (thing,), "x", 40),
         inside(lambda thing: {"x": thing}, 0, 40),
         inside(lambda thing: [(thing,)], Program(("x",)), 20),
+        inside(lambda thing: (thing,), Kind((0,)), 40),
     ]
 
 
@@ -44,7 +47,16 @@ def things():
         [], ["x"], [["x"]], (), ("x",), (("x",),), {}, {"x": "y"}, {1: 2}, bytearray(b"x"), memoryview(b"x"),
         range(3), slice(1, 2), iter(["x"]), object(), int, str, len, ..., NotImplemented,
         ValueError("x"), BadProgram(3), NoPlace(), Unknown("x"), Program, Program(("x",)), Program(("/x", "x")),
+        BadKind(3), Kind, Kind((0,)), Kind((">", 0, 0)), Run(Program(("x",))),
     ] + nested_things()
+
+
+def draws(seed):
+    """Go over numbers that look drawn, but are the same ones each time."""
+    number = seed
+    while True:
+        number = (number * 1103515245 + 12345) % 2 ** 31
+        yield number // 2 ** 8
 
 
 def fresh(many):
@@ -92,3 +104,19 @@ def spelled(names, taken, joined):
 
 
 SHAPES = (leftward, rightward, by_turns)
+
+
+def applied_row(rows):
+    """Return the words of the first part given the second, this given the third, and so on from the left."""
+    return ("@",) * (len(rows) - 1) + tuple(word for row in rows for word in row)
+
+
+def selves(many):
+    """Return so many programs that take a name and are this name, in words."""
+    return [("/" + name, name) for name in fresh(many)]
+
+
+def selves_inside(many):
+    """Return the words of so many that take a name and are this name, each given the next one with all behind it."""
+    row = selves(many)
+    return tuple(word for self in row[:-1] for word in ("@",) + self) + row[-1]

@@ -1,11 +1,11 @@
 """[0.3] and [0.5]: programs that lie deep, and those that are greater than Program lets through."""
 
-import sys
 import unittest
 
 from oncekinds.errors import BadProgram, NoPlace
 from oncekinds.naming import applied, put_in, renamed, same, standard
 from oncekinds.programs import Program, ends, givens, open_names, part, taken_at, takes
+from tests.low import LowTest
 from tests.samples import SHAPES, first_unlike, fresh, leftward, letterings
 
 
@@ -21,15 +21,7 @@ def ends_by_counting(words):
     return tuple(found)
 
 
-class DeepTest(unittest.TestCase):
-
-    def setUp(self):
-        # Deep programs must not even come near the limit that Python sets.
-        self.limit = sys.getrecursionlimit()
-        sys.setrecursionlimit(250)
-
-    def tearDown(self):
-        sys.setrecursionlimit(self.limit)
+class DeepTest(LowTest):
 
     def deep_rows(self):
         """Go over the words of programs with 333 givens, in all shapes, with no, many and most names taken."""

@@ -4,6 +4,7 @@ import unittest
 from itertools import product
 
 from oncekinds.errors import BadProgram, KindError, NoPlace
+from oncekinds.kinds import Kind
 from oncekinds.programs import Program
 from tests.samples import fresh, leftward, rightward, things
 from tests.trees import fault_of
@@ -132,7 +133,7 @@ class EqualityTest(unittest.TestCase):
     def test_nothing_of_another_class_is_equal(self):
         program = Program(("x",))
         others = [thing for thing in things() if not isinstance(thing, Program)]
-        for other in others + [("x",), ["x"], None, "x", BadProgram(0), NoPlace(), [program], (program,)]:
+        for other in others + [("x",), ["x"], None, "x", BadProgram(0), NoPlace(), [program], (program,), Kind((0,))]:
             with self.subTest(other=repr(other)[:60]):
                 self.assertFalse(program == other)
                 self.assertFalse(other == program)

@@ -1,6 +1,8 @@
 """Another way to look at small programs: as trees, worked out by plain recursion."""
 
-from itertools import product
+from itertools import combinations, product
+
+from tests.samples import letterings
 
 
 def tree_of(words, at=0):
@@ -57,11 +59,11 @@ def meaning(program):
 
 
 def replaced(tree, name, other):
-    """Return a nameless tree with another one in the place of an open name."""
+    """Return a tree, a nameless one too, with another one in the place of a name."""
     if tree == ("name", name):
         return other
     if tree[0] == "/":
-        return ("/", replaced(tree[1], name, other))
+        return tree[:-1] + (replaced(tree[-1], name, other),)
     if tree[0] == "@":
         return ("@", replaced(tree[1], name, other), replaced(tree[2], name, other))
     return tree
@@ -76,3 +78,62 @@ def right_words(signs, most):
 def open_in(words):
     """Return the list of the names that stand and are not taken."""
     return [name for name in names_in(tree_of(words)[0]) if "/" + name not in words]
+
+
+def words_of(tree):
+    """Return the words of a tree."""
+    if tree[0] == "name":
+        return (tree[1],)
+    if tree[0] == "/":
+        return ("/" + tree[1],) + words_of(tree[2])
+    return ("@",) + words_of(tree[1]) + words_of(tree[2])
+
+
+def reduced(tree):
+    """Return the tree behind all steps, done from the inside to the outside."""
+    if tree[0] == "name":
+        return tree
+    if tree[0] == "/":
+        return ("/", tree[1], reduced(tree[2]))
+    giver, given = reduced(tree[1]), reduced(tree[2])
+    if giver[0] == "/":
+        return reduced(replaced(giver[2], giver[1], given))
+    return ("@", giver, given)
+
+
+def all_steps(words):
+    """Return the list of the pairs of a place of a step and the words behind it, worked out by trees."""
+    found = []
+    for at, word in enumerate(words):
+        if word == "@" and words[at + 1][0] == "/":
+            (_, (_, name, body), given), end = tree_of(words, at)
+            found.append((at, words[:at] + words_of(replaced(body, name, given)) + words[end:]))
+    return found
+
+
+def trees_with(givens, names, path="t"):
+    """Go over all trees with so many givens and just these open names, each taken name being a string of its own."""
+    if givens == 0 and len(names) == 1:
+        yield ("name", names[0])
+    if givens + 1 > len(names):
+        for body in trees_with(givens, names + (path,), path + "-b"):
+            yield ("/", path, body)
+    for less in range(givens):
+        for many in range(len(names) + 1):
+            for own in combinations(names, many):
+                others = tuple(name for name in names if name not in own)
+                for giver in trees_with(less, own, path + "-f"):
+                    for given in trees_with(givens - 1 - less, others, path + "-a"):
+                        yield ("@", giver, given)
+
+
+def programs_with(givens, names=()):
+    """Return the words of all programs with so many givens and just these open names, told apart but for taken ones."""
+    found = []
+    for tree in trees_with(givens, names):
+        words = words_of(tree)
+        taken = [word[1:] for word in words if word[0] == "/"]
+        row = [name for name in letterings(len(taken) + len(names)) if name not in names]
+        table = {"/" + old: "/" + new for old, new in zip(taken, row)} | dict(zip(taken, row))
+        found.append(tuple(table.get(word, word) for word in words))
+    return found
