@@ -70,12 +70,12 @@ class Nodes:
 
     def in_order(self):
         """Return the list of all heads, each ahead of its parts, or None if one would lie within itself."""
-        heads = [node for node in range(len(self.heads)) if self.heads[node] == node]
+        tops = [node for node in range(len(self.heads)) if self.heads[node] == node]
         uses = [0] * len(self.heads)
-        for node in heads:
+        for node in tops:
             for part in self.parts(node):
                 uses[part] += 1
-        ready = [node for node in heads if uses[node] == 0]
+        ready = [node for node in tops if uses[node] == 0]
         row = []
         while ready:
             node = ready.pop()
@@ -85,7 +85,7 @@ class Nodes:
                 if uses[part] == 0:
                     ready.append(part)
         # Those that lie within themselves are always in use, so they are left over.
-        return row if len(row) == len(heads) else None
+        return row if len(row) == len(tops) else None
 
     def kinds(self, wanted, most):
         """Return the list of the Kinds of some nodes, letters numbered as they come, or None if there are none.

@@ -1,7 +1,7 @@
 """Programs in words, and what stands at their places."""
 
 from oncekinds.basics import ends_by, is_name, is_number, misfit_index
-from oncekinds.errors import BadProgram, NoPlace
+from oncekinds.errors import BadProgram, NoPlace, NotClosed
 
 GIVEN = "@"
 TAKE = "/"
@@ -116,6 +116,12 @@ def open_names(program):
     """Return the tuple of the open names as they stand."""
     taken = set(taken_names(program))
     return tuple([name for name in standing_names(program) if name not in taken])
+
+
+def check_closed(program):
+    """Raise NotClosed for a program with open names."""
+    if open_names(program):
+        raise NotClosed()
 
 
 def givens(program):

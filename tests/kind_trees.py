@@ -1,6 +1,6 @@
 """Another way to look at small kinds: as letters and pairs, worked out by plain recursion."""
 
-from itertools import product
+from itertools import permutations, product
 
 
 def kind_tree(words, at=0):
@@ -118,3 +118,52 @@ def fillings_by_trees(words, others):
         elif found.setdefault(one, kind_words(other)) != kind_words(other):
             return None
     return found
+
+
+def kinding_words(words):
+    """Return the list of the words of the kinds at all places in the widest kinding, numbered together."""
+    table = {}
+    for whole, left, right in joints_by_counting(words):
+        table = united(f"at {whole}", (f"at {left}", f"at {right}"), table)
+    found = [kind_words(put(f"at {place}", table)) for place in range(len(words))]
+    order = list(dict.fromkeys(word for row in found for word in row if word != ">"))
+    return [tuple(word if word == ">" else order.index(word) for word in row) for row in found]
+
+
+def joints_by_counting(words):
+    """Return the triples of places of which the first one's kind is from the second's to the third's."""
+    found = []
+    for at, word in enumerate(words):
+        if word == "@":
+            lacking, given = 1, at + 1
+            while lacking:
+                lacking += {"@": 1, "/": 0}.get(words[given][0], -1)
+                given += 1
+            found.append((at + 1, given, at))
+        elif word[0] == "/":
+            found.append((at, words.index(word[1:]), at + 1))
+    return found
+
+
+def even_kinds(places):
+    """Return the words of all even kinds with so many places of letters, numbered."""
+    found = []
+    for shape in shapes(places):
+        sides = sides_of(tree(shape))
+        if 2 * sum(sides) == places:
+            found += {numbered_words(laid_on(shape, sides, row)) for row in permutations(range(places // 2))}
+    return found
+
+
+def laid_on(shape, sides, row):
+    """Return a shape with 0, 1, .. on the left side, and the letters of a row on the right side."""
+    left, right = iter(range(len(row))), iter(row)
+    letters = iter([next(right) if side else next(left) for side in sides])
+    return tuple(word if word == ">" else next(letters) for word in shape)
+
+
+def sides_of(kind, side=True):
+    """Return the sides of a tree's letters, as they stand."""
+    if not isinstance(kind, tuple):
+        return [side]
+    return sides_of(kind[0], not side) + sides_of(kind[1], side)

@@ -5,35 +5,15 @@ import unittest
 from oncekinds.errors import BadKind
 from oncekinds.filling import common, filled, filling, given_kind
 from oncekinds.kinds import Kind, is_even, numbered, sides
+from tests.kind_shapes import KIND_SHAPES, lefts, letters_by_turns, rights
 from tests.low import LowTest
 from tests.samples import first_unlike
-
-
-def lefts(letters):
-    """Return the words of a kind that has its letters within lefts, the first one within most of them."""
-    return (">",) * (len(letters) - 1) + tuple(letters)
-
-
-def rights(letters):
-    """Return the words of a kind that has its letters as lefts, one behind another, but for the last one."""
-    return tuple(word for letter in letters[:-1] for word in (">", letter)) + (letters[-1],)
-
-
-def by_turns(letters):
-    """Return the words of a kind in which a left lies in a right, and this again in a left, to the end."""
-    words = (letters[0],)
-    for at, letter in enumerate(letters[1:]):
-        words = (">",) + words + (letter,) if at % 2 else (">", letter) + words
-    return words
-
-
-SHAPES = (lefts, rights, by_turns)
 
 
 class DeepTest(LowTest):
 
     def test_kinds_alone(self):
-        for shape in SHAPES:
+        for shape in KIND_SHAPES:
             kind = Kind(shape(list(range(2000))))
             self.assertEqual(len(kind.words), 3999)
             self.assertEqual(numbered(numbered(kind)), numbered(kind))
@@ -46,10 +26,10 @@ class DeepTest(LowTest):
         self.assertIs(is_even(Kind(lefts(pairs))), True)
         self.assertIs(is_even(Kind(lefts([0] + pairs[:-1]))), False)
         self.assertIs(is_even(Kind(rights(pairs))), False)
-        self.assertIs(is_even(Kind(by_turns([0] * 2000))), False)
+        self.assertIs(is_even(Kind(letters_by_turns([0] * 2000))), False)
 
     def test_faults_that_lie_deep(self):
-        for shape in SHAPES:
+        for shape in KIND_SHAPES:
             words = shape(list(range(2000)))
             for wrong, index in ((None, words.index(1000)), (True, words.index(1000))):
                 with self.assertRaises(BadKind) as caught:
@@ -60,7 +40,7 @@ class DeepTest(LowTest):
             self.assertEqual(caught.exception.index, 3998)
 
     def test_filled_and_filling(self):
-        for shape in SHAPES:
+        for shape in KIND_SHAPES:
             words = shape(list(range(2000)))
             kind = Kind(words)
             table = {letter: Kind((letter + 7,)) for letter in range(0, 2000, 3)}
@@ -75,7 +55,7 @@ class DeepTest(LowTest):
             self.assertEqual(len(filled(Kind((">", 0, 0)), {0: kind}).words), 2 * 3999 + 1)
 
     def test_common(self):
-        for shape in SHAPES:
+        for shape in KIND_SHAPES:
             kind = Kind(shape(list(range(2000))))
             same = Kind(shape([0] * 2000))
             turned = Kind(shape(list(range(1999, -1, -1))))
@@ -87,7 +67,7 @@ class DeepTest(LowTest):
             self.assertIsNone(common(Kind(shape([0] * 1000)), Kind(shape([0] * 1001))))
 
     def test_given_kind(self):
-        for shape in SHAPES:
+        for shape in KIND_SHAPES:
             words = shape(list(range(1999)))
             kind = Kind(words)
             self.assertEqual(given_kind(Kind((">", 0, 0)), kind), numbered(kind))
@@ -100,7 +80,7 @@ class DeepTest(LowTest):
 class GreatTest(LowTest):
 
     def test_they_may_be_passed_on(self):
-        for shape in SHAPES:
+        for shape in KIND_SHAPES:
             kind = Kind(shape([5] * 2000))
             great = filled(Kind(shape(list(range(20)))), {letter: kind for letter in range(0, 20, 2)})
             self.assertEqual(len(great.words), 10 * 3999 + 10 + 19)
