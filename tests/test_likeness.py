@@ -123,7 +123,7 @@ class AlikeTest(unittest.TestCase):
                     self.assertTrue(self.judged(Program(most), Program(words)))
 
     def test_names_of_the_words_do_not_count(self):
-        # All words of closed programs of at most eight words with three names.
+        # All closed programs of at most five words with two names.
         rows = [words for words in right_words(("@", "/x", "/y", "x", "y"), 5) if not any(
             word[0] not in "@/" and "/" + word not in words for word in words)]
         self.assertGreater(len(rows), 5)

@@ -123,7 +123,6 @@ class RunTest(unittest.TestCase):
                 self.assertEqual(run.program(), before)
 
     def test_to_rest_from_between(self):
-        # The step at 6 is followed by others that lie further ahead.
         words = ("@", "@", "/f", "/g", "@", "f", "g", "/x", "x", "@", "/y", "y", "p")
         program = Program(words)
         run = Run(program)

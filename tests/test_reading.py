@@ -94,12 +94,12 @@ class FaultOfTest(unittest.TestCase):
         self.assertEqual(fault_of(Kind((0,))), ("letter", 0))
         self.assertEqual(fault_of(Kind((GREAT,))), ("letter", GREAT))
         self.assertEqual(fault_of(Kind((">", 5, ">", 3, ">", 4, 4))), ("letter", 3))
-        self.assertEqual(fault_of(Kind((">", 5, ">", 5, ">", 5, ">", 7, 2)))[0:2], ("letter", 2))
+        self.assertEqual(fault_of(Kind((">", 5, ">", 5, ">", 5, ">", 7, 2))), ("letter", 2))
         self.assertEqual(fault_of(Kind((">", ">", 1, 1, ">", 9, 1))), ("letter", 1))
         self.assertEqual(fault_of(Kind((">", ">", 9, 9, ">", ">", 9, 9, ">", 1, 1))), ("letter", 9))
 
     def test_the_sides(self):
-        self.assertEqual(fault_of(Kind((">", 0, ">", 0, ">", ">", 1, ">", 1, 2, 2)))[0], "side")
+        self.assertEqual(fault_of(Kind((">", 0, ">", 0, ">", ">", 1, ">", 1, 2, 2))), ("side", 0))
         self.assertEqual(fault_of(Kind((">", ">", 4, 3, ">", 3, 4))), ("side", 3))
         self.assertEqual(fault_of(Kind((">", ">", ">", 6, 1, 6, 1))), ("side", 1))
 
@@ -111,7 +111,6 @@ class FaultOfTest(unittest.TestCase):
         self.assertEqual(fault_of(Kind((">", ">", ">", 5, 3, 3, ">", 4, ">", 4, 5)))[0], "side")
 
     def test_what_comes_first_in_the_reading(self):
-        # Both faults are there: the first part leaves a name, the second one stops; then the other way round.
         kinds = {"left": 0, "stops": 0, None: 0}
         for words in EVEN + even_kinds(8)[::5]:
             part, fault = read(words)

@@ -12,7 +12,7 @@ SMALL = right_words(("@", "/x", "/y", "x", "y", "z"), 6) + [
     words for names in ((), ("p",), ("p", "q")) for givens_ in range(3) for words in programs_with(givens_, names)]
 GREATER = programs_with(3) + programs_with(3, ("p",))[::7]
 
-# ([x] [y] (y x)) given an open name, within what is taken and given itself.
+# Steps that lie one within another, with names in no order and an open one.
 ODD = ("@", "/zz", "@", "@", "/q", "/b", "@", "b", "q", "abcdefgh", "zz", "/a", "a")
 
 
