@@ -2,6 +2,8 @@
 
 LETTERS = "abcdefghijklmnopqrstuvwxyz"
 MOST_LETTERS = 8
+DIGITS = "0123456789"
+MOST_DIGITS = 40
 
 
 def is_number(thing):
@@ -49,3 +51,13 @@ def ends_by(needs):
         for _ in range(needs[at]):
             behind[at] = behind[behind[at]]
     return tuple(behind)
+
+
+def number_told(signs):
+    """Return the number that is told by digits without a needless 0, or None."""
+    if signs == "" or not all([sign in DIGITS for sign in signs]):
+        return None
+    if signs.startswith("0") and signs != "0":
+        return None
+    # Python reads no row of thousands of digits; the first ones alone are more than anything here counts.
+    return int(signs[:MOST_DIGITS + 1])

@@ -2,7 +2,7 @@
 
 from oncekinds.basics import is_number
 from oncekinds.errors import NoFillings, TooMany
-from oncekinds.kinds import INTO, Kind, kind_ends, kind_of, letters_in
+from oncekinds.kinds import INTO, Kind, kind_ends, kind_of
 from oncekinds.nodes import Nodes
 
 MOST_FILLED = 100000

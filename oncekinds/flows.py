@@ -13,13 +13,14 @@ def flow_polynomial(pairs):
     counts = {(): [1]}
     while left:
         knot = next_knot(left, row)
-        for pair in [pair for pair in left if knot in pair]:
+        own = [pair for pair in left if knot in pair]
+        left = [pair for pair in left if knot not in pair]
+        for pair in own:
             for end in pair:
                 if end not in row:
                     row.append(end)
                     counts = grown(counts)
             counts = wired(counts, row.index(pair[0]), row.index(pair[1]))
-        left = [pair for pair in left if knot not in pair]
         for end in list(row):
             if not any([end in pair for pair in left]):
                 counts = dropped(counts, row.index(end))

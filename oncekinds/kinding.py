@@ -54,6 +54,18 @@ def widest(program):
     return nodes.kinds(places[:1], None)[0]
 
 
+def widest_with(program, kinds, most):
+    """Return the Kind of a program if what has the kinds of a dict is put in the places of its open names, numbered.
+
+    TooMany is raised for more words.
+    """
+    nodes, places = kinded(program)
+    for place, word in enumerate(program.words):
+        if word in kinds:
+            nodes.unite(places[place], nodes.take_in(kinds[word]))
+    return nodes.kinds(places[:1], most)[0]
+
+
 def fits(program, kind):
     """Tell whether some kinding of a program gives this Kind to the whole of it."""
     if not isinstance(kind, Kind):

@@ -69,25 +69,25 @@ def check_string(thing):
         raise BadText(-1)
 
 
-def check_end(text, at):
+def check_end(signs, at):
     """Raise BadText if a text goes on."""
-    if at < len(text):
+    if at < len(signs):
         raise BadText(at)
 
 
-def behind(text, at, signs):
-    """Return the index behind these signs; BadText if others stand at an index of a text, or none."""
-    for sign in signs:
-        if text[at:at + 1] != sign:
+def behind(signs, at, wanted):
+    """Return the index behind the wanted signs; BadText if others stand at an index of a text, or none."""
+    for sign in wanted:
+        if signs[at:at + 1] != sign:
             raise BadText(at)
         at += 1
     return at
 
 
-def letters_end(text, at, most):
+def letters_end(signs, at, most):
     """Return the index behind the letters at an index of a text, at most so many; BadText if there is none."""
     end = at
-    while end < min(at + most, len(text)) and text[end] in LETTERS:
+    while end < min(at + most, len(signs)) and signs[end] in LETTERS:
         end += 1
     if end == at:
         raise BadText(at)

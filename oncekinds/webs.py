@@ -86,7 +86,7 @@ def clash_in(near, flags):
 
 
 def odd_ring(program):
-    """Return a tuple of an odd number of unlike knots, each joined to the next one and the last to the first, or None."""
+    """Return a tuple of an odd number of unlike knots, each joined to the next, the last to the first, or None."""
     near = neighbours(program)
     origins, flags = walked(near)
     pair = clash_in(near, flags)
@@ -110,7 +110,7 @@ def way_back(origins, knot):
 
 
 def is_odd_ring(program, thing):
-    """Tell whether a thing is a tuple of an odd number of unlike knots, each joined to the next, the last to the first."""
+    """Tell whether a thing is a tuple such as odd_ring tells: an odd number of knots, each joined to the next one."""
     near = neighbours(program)
     if not isinstance(thing, tuple) or len(thing) % 2 == 0:
         return False

@@ -2,6 +2,8 @@
 
 from itertools import count, islice, product
 
+from oncekinds.books import Book
+from oncekinds.desk import Desk
 from oncekinds.errors import BadKind, BadProgram, NoPlace, Unknown
 from oncekinds.kinds import Kind
 from oncekinds.live import Run
@@ -47,7 +49,7 @@ def things():
         [], ["x"], [["x"]], (), ("x",), (("x",),), {}, {"x": "y"}, {1: 2}, bytearray(b"x"), memoryview(b"x"),
         range(3), slice(1, 2), iter(["x"]), object(), int, str, len, ..., NotImplemented,
         ValueError("x"), BadProgram(3), NoPlace(), Unknown("x"), Program, Program(("x",)), Program(("/x", "x")),
-        BadKind(3), Kind, Kind((0,)), Kind((">", 0, 0)), Run(Program(("x",))),
+        BadKind(3), Kind, Kind((0,)), Kind((">", 0, 0)), Run(Program(("x",))), Book, Book(), Book().deal(), Desk, Desk(),
     ] + nested_things()
 
 

@@ -3,6 +3,7 @@
 import unittest
 
 from oncekinds.adding import many_ones, polynomial, sums
+from oncekinds.books import Book
 from oncekinds.counting import many, many_in_order, many_rests, programs
 from oncekinds.kinding import widest
 from oncekinds.likeness import alike, callers_alike
@@ -45,6 +46,13 @@ class ExamplesTest(unittest.TestCase):
         p = read("[f] [x] (f x)")
         self.assertEqual((sums(p, 5, (2, 4)), polynomial(p), wires(p), camps(p), many_ones(p, 3)),
                          ((0, 2, 1, 2, 4), (2, -3, 1), [(1, 2), (1, 2), (1, 2)], (True, False), 2))
+
+    def test_e09(self):
+        b = Book()
+        b.put("twice", read("[x] (g x)"))
+        b.put("g", read("[y] y"))
+        self.assertEqual((kind_text(b.kind("twice")), b.changed(), b.worked(), b.order()),
+                         ('a > a', ['g', 'twice'], ['g', 'twice'], ['g', 'twice']))
 
 
 if __name__ == "__main__":
