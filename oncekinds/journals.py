@@ -65,7 +65,7 @@ def change_told(line):
         return None
     if word == "drop" and blank == "":
         return (name, None)
-    if word != "put" or blank == "":
+    if word != "put":
         return None
     try:
         return (name, read(signs))

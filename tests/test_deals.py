@@ -79,7 +79,8 @@ class DealTest(unittest.TestCase):
         deal.put("k", Program(SELF))
         deal.drop("k")
         self.assertEqual((deal.deeds(), deal.asked()), (2, 12))
-        for error, call, row in ((NoName, deal.put, ("", None)), (NoProgram, deal.put, ("k", None)), (Unknown, deal.drop, ("k",))):
+        wrong = ((NoName, deal.put, ("", None)), (NoProgram, deal.put, ("k", None)), (Unknown, deal.drop, ("k",)))
+        for error, call, row in wrong:
             with self.assertRaises(error):
                 call(*row)
         self.assertEqual((deal.deeds(), deal.asked()), (2, 12))
